@@ -22,6 +22,11 @@ func All[T any](list []T, most int, sound func(T) bool) bool {
 // SoundPlace reports whether n may be a node, or a position.
 func SoundPlace(n int) bool { return Within(n, 0, api.MaxNodes-1) }
 
+// SoundParty reports whether n may be a node, the master or a client.
+func SoundParty(n int) bool {
+	return Within(n, api.Master-api.MaxClients, api.MaxNodes-1)
+}
+
 // SoundConf reports whether c may stand in a record or a message. It need not
 // be the configuration of a cluster.
 func SoundConf(c api.Conf) bool {

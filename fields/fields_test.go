@@ -52,6 +52,14 @@ func TestSoundPlace(t *testing.T) {
 	}
 }
 
+func TestSoundParty(t *testing.T) {
+	for n, want := range map[int]bool{-5: true, -2: true, -1: true, 0: true, 15: true, -6: false, 16: false, 256: false, math.MinInt: false, math.MaxInt: false} {
+		if got := SoundParty(n); got != want {
+			t.Errorf("SoundParty(%d) = %t", n, got)
+		}
+	}
+}
+
 func TestSoundConf(t *testing.T) {
 	for _, c := range []struct {
 		conf api.Conf
