@@ -1,8 +1,9 @@
 // Package fields is what records and messages consist of: the limits of their
-// fields, and the fields as bytes.
+// fields, the fields as bytes, and copies of them.
 package fields
 
 import (
+	"bytes"
 	"math"
 	"slices"
 
@@ -87,6 +88,27 @@ func ReadList[T any](from *pack.Reader, most int, read func(*pack.Reader) T) []T
 	var list []T
 	for range from.Count(most) {
 		list = append(list, read(from))
+	}
+	return list
+}
+
+// CopyConf returns c with members of its own.
+func CopyConf(c api.Conf) api.Conf {
+	c.Members = slices.Clone(c.Members)
+	return c
+}
+
+// CopyEntry returns e with a fragment of its own.
+func CopyEntry(e api.Entry) api.Entry {
+	e.Frag = bytes.Clone(e.Frag)
+	return e
+}
+
+// CopyEntries returns copies of the entries of list.
+func CopyEntries(list []api.Entry) []api.Entry {
+	list = slices.Clone(list)
+	for i, e := range list {
+		list[i] = CopyEntry(e)
 	}
 	return list
 }

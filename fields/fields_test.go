@@ -170,3 +170,67 @@ func TestReadList(t *testing.T) {
 		}
 	}
 }
+
+// roomy returns an entry whose fragment has spare capacity.
+func roomy(n int) api.Entry {
+	return api.Entry{Seq: n, Client: 2, Num: 3, Op: 4, Key: "ab", Size: 5, Sum: 6, Frag: append(make([]byte, 0, 8), byte(n), 9)}
+}
+
+func TestCopyConf(t *testing.T) {
+	members := []int{7, 2, 9, 66}
+	got := CopyConf(api.Conf{Epoch: 4, Members: members[:3]})
+	if got.Epoch != 4 || !slices.Equal(got.Members, []int{7, 2, 9}) {
+		t.Errorf("CopyConf = %v", got)
+	}
+	clear(got.Members[:cap(got.Members)])
+	if !slices.Equal(members, []int{7, 2, 9, 66}) {
+		t.Errorf("CopyConf shares memory: %v", members)
+	}
+	if got := CopyConf(api.Conf{Members: []int{}}); got.Epoch != 0 || len(got.Members) != 0 {
+		t.Errorf("CopyConf of no members = %v", got)
+	}
+}
+
+func TestCopyEntry(t *testing.T) {
+	e := roomy(1)
+	got := CopyEntry(e)
+	if !bytes.Equal(Entry(got), Entry(e)) {
+		t.Errorf("CopyEntry(%#v) = %#v", e, got)
+	}
+	for i := range got.Frag[:cap(got.Frag)] {
+		got.Frag[:cap(got.Frag)][i] = 77
+	}
+	if !bytes.Equal(e.Frag[:cap(e.Frag)], []byte{1, 9, 0, 0, 0, 0, 0, 0}) {
+		t.Errorf("CopyEntry shares memory: %v", e.Frag[:cap(e.Frag)])
+	}
+	if got := CopyEntry(api.Entry{Seq: 1}); got.Seq != 1 || len(got.Frag) != 0 {
+		t.Errorf("CopyEntry without a fragment = %#v", got)
+	}
+}
+
+func TestCopyEntries(t *testing.T) {
+	list := []api.Entry{roomy(0), roomy(1), roomy(2)}
+	got := CopyEntries(list[:2])
+	if len(got) != 2 || !bytes.Equal(List(got, Entry), List(list[:2], Entry)) {
+		t.Errorf("CopyEntries = %#v", got)
+	}
+	for i := range got {
+		got[i].Frag[0] = 77
+	}
+	clear(got[:cap(got)])
+	for i, e := range list {
+		if !bytes.Equal(Entry(e), Entry(roomy(i))) {
+			t.Errorf("CopyEntries shares memory: entry %d is %#v", i, e)
+		}
+	}
+	for _, list := range [][]api.Entry{nil, {}, list[:0]} {
+		got := CopyEntries(list)
+		if len(got) != 0 {
+			t.Errorf("CopyEntries of nothing = %#v", got)
+		}
+		_ = append(got, api.Entry{Seq: 77})
+	}
+	if list[0].Seq != 0 {
+		t.Error("CopyEntries of nothing shares memory")
+	}
+}
